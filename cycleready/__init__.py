@@ -1,0 +1,1 @@
+"""Cycleready: modules that are initialized on first use, by many threads, with cycles."""

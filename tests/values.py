@@ -1,0 +1,82 @@
+"""Values that the tests pass where something else is required."""
+
+
+class Agrees:
+    """Says that it is equal to everything, and cannot be looked up in a dict."""
+
+    __hash__ = None
+
+    def __eq__(self, other):
+        return True
+
+    def __len__(self):
+        return 3
+
+
+class Refuses:
+    """Raises an error as soon as it is compared, measured, tested or shown."""
+
+    __hash__ = None
+
+    def refuse(self, *others):
+        raise AssertionError("touched")
+
+    __eq__ = __ne__ = __lt__ = __le__ = __gt__ = __ge__ = refuse
+    __len__ = __bool__ = __iter__ = __getitem__ = __str__ = __repr__ = refuse
+
+
+NO_NUMBERS_NO_STRINGS = [
+    None,
+    True,
+    False,
+    b"",
+    b"a",
+    b"set a 1",
+    bytearray(b"a"),
+    [],
+    ["a"],
+    ["set", "a", 1],
+    [("set", "a", 1)],
+    {},
+    {"a": 1},
+    {"set": {"a": [1]}},
+    set(),
+    {"a"},
+    frozenset(["a"]),
+    range(3),
+    object(),
+    int,
+    str,
+    len,
+    Agrees(),
+    Refuses(),
+]
+
+NO_STEPS = NO_NUMBERS_NO_STRINGS + [
+    0,
+    1,
+    -1,
+    10 ** 30,
+    "",
+    "a",
+    "fail",
+    "set a 1",
+    (),
+    ("",),
+    (None,),
+    (1,),
+    (True,),
+    (("fail",),),
+    (["fail"],),
+    ({"fail": 1},),
+    (b"fail",),
+    (Agrees(),),
+    (Refuses(),),
+    (Agrees(), "a", 1),
+    ("Fail",),
+    ("fails",),
+    ("fail ",),
+    ("jump", "a"),
+    ("set a", 1),
+    ("set", ("a", 1)),
+]

@@ -38,7 +38,7 @@ class InvalidLibrary(LoaderError):
 
     def __init__(self, module, position):
         super().__init__(f"not a library, position {position} of a module")
-        self.module = module
+        self.module = copied(module)
         self.position = position
 
 

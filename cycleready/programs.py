@@ -1,7 +1,7 @@
 """Steps and programs: what they look like, which modules occur in them, and the text of a step."""
 
 from cycleready.errors import InvalidProgram, InvalidText
-from cycleready.words import is_decimal, is_integer, is_name, is_variable
+from cycleready.words import bare_word, is_decimal, is_integer, is_name, is_variable
 
 MOST_STEPS = 30
 
@@ -49,25 +49,32 @@ def is_plain(step):
     return is_step(step) and step[0] in PLAIN_STEPS
 
 
-def is_step_before(value, steps_after):
-    """Return whether a value is a step that skips at most so many steps."""
-    return is_step(value) and (value[0] != "skip" or value[2] <= steps_after)
+def step_modules(step):
+    """Return the list of the modules that occur in a step."""
+    return [item for item, kind in zip(step[1:], SHAPES[step[0]]) if kind == "module"]
 
 
-def check_program(value, *, is_main=False):
-    """Raise InvalidProgram for a value that is not an initializer, or, if is_main is True, not a main program."""
+def is_step_before(value, steps_after, modules):
+    """Return whether a value is a step that skips at most so many steps and has only these modules, or any for None."""
+    if not is_step(value) or (value[0] == "skip" and value[2] > steps_after):
+        return False
+    return modules is None or all([module in modules for module in step_modules(value)])
+
+
+def check_steps(value, is_main, modules):
+    """Raise InvalidProgram as check_program, and for a step with a module that is not among these, if not None."""
     if not isinstance(value, list) or len(value) > MOST_STEPS:
         raise InvalidProgram(-1)
     for position, step in enumerate(value):
-        if not is_step_before(step, len(value) - position - 1):
+        if not is_step_before(step, len(value) - position - 1, modules):
             raise InvalidProgram(position)
         if is_main is True and step[0] == "export":
             raise InvalidProgram(position)
 
 
-def step_modules(step):
-    """Return the list of the modules that occur in a step."""
-    return [item for item, kind in zip(step[1:], SHAPES[step[0]]) if kind == "module"]
+def check_program(value, *, is_main=False):
+    """Raise InvalidProgram for a value that is not an initializer, or, if is_main is True, not a main program."""
+    check_steps(value, is_main, None)
 
 
 def modules_in(program):
@@ -76,17 +83,21 @@ def modules_in(program):
     return sorted({module for step in program for module in step_modules(step)})
 
 
-def item_text(item):
-    """Return the word that stands for an item in the text of a step."""
-    # A subclass of str or int may show itself in another way than its value is written.
-    return item if isinstance(item, str) else str(int(item))
+def bare_item(item):
+    """Return an item of a step as a plain string or integer."""
+    return bare_word(item) if isinstance(item, str) else int(item)
+
+
+def bare_program(program):
+    """Return a new list of the steps of a program, as plain tuples of plain items."""
+    return [tuple([bare_item(item) for item in step]) for step in program]
 
 
 def step_text(step):
     """Return the text of a step."""
     if not is_step(step):
         raise InvalidProgram(0)
-    return " ".join([item_text(item) for item in step])
+    return " ".join([str(bare_item(item)) for item in step])
 
 
 def parse_item(word, kind):

@@ -1,5 +1,7 @@
 """Names, integers, counts and variables: the words of which programs consist."""
 
+from cycleready.errors import InvalidName
+
 VARIABLES = ("a", "b", "c", "d")
 LONGEST_NAME = 8
 
@@ -20,6 +22,18 @@ def is_name(value):
     if not isinstance(value, str) or not 1 <= len(value) <= LONGEST_NAME:
         return False
     return all(["a" <= letter <= "z" for letter in value])
+
+
+def check_name(value):
+    """Raise InvalidName for a value that is not a name."""
+    if not is_name(value):
+        raise InvalidName(value)
+
+
+def bare_word(word):
+    """Return a string of exactly these characters."""
+    # A subclass of str may show itself in another way, so objects keep its characters alone.
+    return "".join([word])
 
 
 def is_variable(value):

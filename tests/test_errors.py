@@ -7,6 +7,7 @@ from cycleready import errors
 from cycleready.errors import (
     CommandFailed,
     Cyclic,
+    InvalidLibrary,
     InvalidName,
     LoaderError,
     NoNeed,
@@ -149,6 +150,12 @@ class Copies(unittest.TestCase):
             inner.append(2)
             value["d"] = 3
             self.assertEqual(error.value, {"a": [1], "b": ([1], "c")})
+
+    def test_a_wrong_module_of_a_library_is_copied(self):
+        module = ["m"]
+        error = InvalidLibrary(module, -1)
+        module.clear()
+        self.assertEqual(error.module, ["m"])
 
     def test_both_ends_of_a_need_are_copied(self):
         source, target = ["m"], [["n"]]

@@ -51,7 +51,130 @@ SKIP_NOTHING = """
 raises InvalidText(line=1)
 """
 
+WITH_LIBRARY = """
+>>> from cycleready.library import Library
+>>> library = Library({"n": [("need", "m"), ("read", "b", "m", "x"), ("export", "y", "b")], "m": [("set", "a", 5), ("export", "x", "a")]})
+"""
+
+LIBRARY_EXAMPLES = [
+    """
+>>> [len(library), library == Library({"m": []}), repr(Library({"m": [("fail",)]}))]
+[2, False, "Library({'m': [('fail',)]})"]
+""",
+    """
+>>> from cycleready.library import Library
+>>> Library({"m": [("fail",), ("need", "k")]})
+raises InvalidLibrary(module='m', position=1)
+""",
+    """
+>>> other = Library.of(("m", [("fail",)]), ("k", []))
+>>> [other, other == Library({"k": [], "m": [("fail",)]})]
+[Library({'k': [], 'm': [('fail',)]}), True]
+""",
+    """
+>>> Library.of(("m", []), ("m", []))
+raises InvalidLibrary(module='m', position=-1)
+""",
+    """
+>>> [library.modules(), library.has_module("m"), library.has_module(None), library.initializer("m")]
+[['m', 'n'], True, False, [('set', 'a', 5), ('export', 'x', 'a')]]
+""",
+    r"""
+>>> from cycleready.library_text import library_text
+>>> library_text(library)
+'module m\n  set a 5\n  export x a\nmodule n\n  need m\n  read b m x\n  export y b\n'
+""",
+    r"""
+>>> from cycleready.library_text import load_library
+>>> load_library("module m\n  need m\n").initializer("m")
+[('need', 'm')]
+""",
+    r"""
+>>> from cycleready.library_text import load_library
+>>> load_library("module m\n  fail\n  need k\n")
+raises InvalidText(line=3)
+""",
+]
+
+WITH_NEEDS = """
+>>> from cycleready.needs import Needs
+>>> needs = Needs()
+>>> added = [needs.record("a", "b"), needs.record("b", "a"), needs.record("b", "c")]
+"""
+
+NEEDS_EXAMPLES = [
+    """
+>>> [added, len(needs), repr(needs), str(needs), needs == Needs()]
+[[True, True, True], 3, "Needs([('a', 'b'), ('b', 'a'), ('b', 'c')])", 'a:b b:a b:c', False]
+""",
+    """
+>>> [Needs.of(), Needs.of(("b", "c"), ("a", "b"), ("b", "c")), Needs.of(("a", "b"), ("b", "a"), ("b", "c")) == needs]
+[Needs([]), Needs([('a', 'b'), ('b', 'c')]), True]
+""",
+    """
+>>> [needs.record("a", "b"), needs.delete_all("b"), needs.delete_all(None), needs.pairs()]
+[False, 2, 0, [('a', 'b')]]
+""",
+    """
+>>> needs.delete("c", "a")
+raises NoNeed(source='c', target='a')
+""",
+    """
+>>> [needs.targets("b"), needs.sources("b"), needs.targets(7)]
+[['a', 'c'], ['a'], []]
+""",
+    """
+>>> [needs.depends("a", "c"), needs.depends("c", "a"), needs.depends("x", "x"), needs.closure("a"), needs.group("a")]
+[True, False, True, ['a', 'b', 'c'], ['a', 'b']]
+""",
+    """
+>>> [needs.path("a", "c"), needs.path("c", "a"), needs.path("c", "c"), needs.cycle_through("b"), needs.cycle_through("c")]
+[['a', 'b', 'c'], None, ['c'], ['b', 'a'], None]
+""",
+    """
+>>> other = needs.clone()
+>>> other.delete("b", "a")
+>>> [needs.is_acyclic(), other.is_acyclic(), other == needs]
+[False, True, False]
+""",
+]
+
+WITH_FRAME = """
+>>> from cycleready.frames import Frame
+>>> frame = Frame([("set", "a", 2), ("skip", "a", 1), ("fail",), ("read", "b", "m", "x")])
+"""
+
+FRAME_EXAMPLES = [
+    """
+>>> [len(frame), frame == frame.clone(), frame == Frame([])]
+[0, True, False]
+""",
+    """
+>>> [frame.next_step(), frame.next_index(), frame.variables(), frame.is_over()]
+[('set', 'a', 2), 0, {'a': 0, 'b': 0, 'c': 0, 'd': 0}, False]
+""",
+    """
+>>> frame.run_plain()
+>>> frame.run_plain()
+>>> [frame.next_index(), frame.next_step(), frame.variables(), len(frame)]
+[3, ('read', 'b', 'm', 'x'), {'a': 2, 'b': 0, 'c': 0, 'd': 0}, 2]
+""",
+    """
+>>> frame.run_plain()
+>>> frame.run_plain()
+>>> frame.pass_step(value=7)
+>>> [frame.is_over(), frame.variables(), len(frame)]
+[True, {'a': 2, 'b': 7, 'c': 0, 'd': 0}, 3]
+""",
+    """
+>>> frame.pass_step()
+raises WrongStep(position=0)
+""",
+]
+
+SECTIONS = [(WITH_LIBRARY, LIBRARY_EXAMPLES), (WITH_NEEDS, NEEDS_EXAMPLES), (WITH_FRAME, FRAME_EXAMPLES)]
 EXAMPLES = [ERRORS, WORDS, KINDS, SKIP_TOO_FAR, VALID_PROGRAMS, MODULES_IN, TEXTS, SKIP_NOTHING]
+EXAMPLES += [beginning + example.removeprefix("\n") for beginning, examples in SECTIONS for example in examples]
 
 
 def error_text(error):

@@ -14,7 +14,20 @@ INTERFACE = {
         WrongState MustWait NotWaiting HasEnded StillNeeded CommandFailed TooMany Cyclic""",
     "words.py": "VARIABLES is_name is_integer is_count",
     "programs.py": "MOST_STEPS is_step is_plain check_program modules_in step_text parse_step",
+    "library.py": "Library MOST_MODULES",
+    "library_text.py": "library_text load_library",
+    "needs.py": "Needs",
+    "frames.py": "Frame",
 }
+METHODS = {
+    "Library": "__init__ __eq__ __len__ __repr__ of modules has_module initializer",
+    "Needs": """__init__ __eq__ __len__ __repr__ __str__ of record delete delete_all pairs targets sources depends closure
+        group path cycle_through is_acyclic clone""",
+    "Frame": "__init__ __eq__ __len__ next_step next_index variables is_over run_plain pass_step clone",
+}
+BUILTIN_METHODS = """append clear copy count endswith extend find get index insert isalnum isalpha isdigit islower isspace
+    isupper items join keys ljust lower lstrip partition pop remove replace reverse rfind rjust rpartition rsplit rstrip
+    setdefault split splitlines startswith strip update upper values zfill bit_length removeprefix removesuffix""".split()
 BUILTINS = """len range enumerate zip min max sum abs sorted reversed int str bool list tuple dict set frozenset isinstance
     ord repr any all divmod iter next super property staticmethod classmethod Exception ValueError TypeError KeyError
     IndexError LookupError ZeroDivisionError ArithmeticError OverflowError RuntimeError NotImplementedError
@@ -37,6 +50,25 @@ def defined_in(tree):
     """The names that a file defines itself, at module level."""
     names = [node.name for node in tree.body if isinstance(node, (ast.FunctionDef, ast.ClassDef))]
     return names + [target.id for node in tree.body if isinstance(node, ast.Assign) for target in node.targets]
+
+
+def classes_in(tree):
+    return [node for node in tree.body if isinstance(node, ast.ClassDef)]
+
+
+def methods_in(node):
+    """The names of the methods that stand in the body of a class itself."""
+    return [method.name for method in node.body if isinstance(method, ast.FunctionDef)]
+
+
+def all_methods():
+    return [name for tree in PARSED.values() for node in classes_in(tree) for name in methods_in(node)]
+
+
+def attributes_in(tree, context):
+    """The names of the attributes that a file reads, or that it assigns."""
+    nodes = [node for node in ast.walk(tree) if isinstance(node, ast.Attribute)]
+    return [node.attr for node in nodes if isinstance(node.ctx, context)]
 
 
 def names_in(tree):
@@ -105,9 +137,49 @@ class Names(unittest.TestCase):
     def test_called_names_are_known(self):
         for name, tree in PARSED.items():
             imported = [alias.name for node in imports_in(tree) for alias in node.names]
-            known = BUILTINS + defined_in(tree) + imported
+            known = BUILTINS + defined_in(tree) + imported + ["cls"]
             called = [node.func for node in ast.walk(tree) if isinstance(node, ast.Call)]
             self.assertEqual([node.id for node in called if isinstance(node, ast.Name) and node.id not in known], [])
+
+
+class Classes(unittest.TestCase):
+    def test_the_methods_of_the_interface_stand_in_their_classes(self):
+        found = {node.name: methods_in(node) for tree in PARSED.values() for node in classes_in(tree)}
+        for name, methods in METHODS.items():
+            self.assertEqual([method for method in methods.split() if method not in found[name]], [], msg=name)
+            self.assertEqual(sorted(found[name]), sorted(set(found[name])), msg=name)
+
+    def test_no_name_is_a_method_and_an_attribute(self):
+        for name, tree in PARSED.items():
+            assigned = attributes_in(tree, ast.Store)
+            self.assertEqual([word for word in assigned if word in all_methods()], [], msg=name)
+
+    def test_attributes_that_are_read_are_assigned_or_methods(self):
+        assigned = [word for tree in PARSED.values() for word in attributes_in(tree, ast.Store)]
+        known = assigned + all_methods() + BUILTIN_METHODS
+        for name, tree in PARSED.items():
+            self.assertEqual([word for word in attributes_in(tree, ast.Load) if word not in known], [], msg=name)
+
+
+class Expressions(unittest.TestCase):
+    def test_is_stands_beside_none_true_and_false_only(self):
+        for name, tree in PARSED.items():
+            for node in [node for node in ast.walk(tree) if isinstance(node, ast.Compare)]:
+                for sign, side in zip(node.ops, node.comparators):
+                    if isinstance(sign, (ast.Is, ast.IsNot)):
+                        self.assertIsInstance(side, ast.Constant, msg=name)
+                        self.assertIn(side.value, (None, True, False), msg=name)
+
+    def test_any_all_and_sorted_take_no_generator_expression(self):
+        for name, tree in PARSED.items():
+            self.assertEqual([node for node in ast.walk(tree) if isinstance(node, ast.GeneratorExp)], [], msg=name)
+
+    def test_no_float_and_no_division(self):
+        for name, tree in PARSED.items():
+            nodes = list(ast.walk(tree))
+            constants = [node.value for node in nodes if isinstance(node, ast.Constant)]
+            self.assertEqual([value for value in constants if isinstance(value, (float, complex))], [], msg=name)
+            self.assertEqual([node for node in nodes if isinstance(node, ast.Div)], [], msg=name)
 
 
 if __name__ == "__main__":

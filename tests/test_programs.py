@@ -1,13 +1,12 @@
 """Steps, programs and the text of a step [2, 5, 6, 8]."""
 
 import copy
-import enum
 import inspect
 import unittest
 
 from cycleready.errors import InvalidProgram, InvalidText
 from cycleready.programs import MOST_STEPS, check_program, is_plain, is_step, modules_in, parse_step, step_text
-from values import NO_NUMBERS_NO_STRINGS, NO_STEPS, Agrees, Refuses
+from values import NO_NUMBERS_NO_STRINGS, NO_STEPS, Agrees, Number, Refuses, Word
 
 BIG = 123456789012345678901234567890
 
@@ -67,15 +66,6 @@ WRONG = {
     "i": NEVER + ["", "a", "1", "-1"],
     "k": NEVER + ["", "a", "1", 0, -1, -BIG],
 }
-
-
-class Word(str, enum.Enum):
-    NEED = "need"
-    MODULE = "m"
-
-
-class Number(int, enum.Enum):
-    FEW = -3
 
 
 def with_item(step, at, item):

@@ -4,8 +4,18 @@ import enum
 import unittest
 
 from cycleready import words
-from cycleready.words import VARIABLES, is_count, is_decimal, is_integer, is_name, is_variable
-from values import NO_NUMBERS_NO_STRINGS
+from cycleready.errors import InvalidName
+from cycleready.words import (
+    VARIABLES,
+    bare_word,
+    check_name,
+    is_count,
+    is_decimal,
+    is_integer,
+    is_name,
+    is_variable,
+)
+from values import NO_NAMES, NO_NUMBERS_NO_STRINGS, Word, is_same
 
 LETTERS = "abcdefghijklmnopqrstuvwxyz"
 
@@ -44,6 +54,19 @@ class Names(WordsCase):
 
     def test_by_name(self):
         self.assertIs(is_name(value="a"), True)
+
+    def test_check_name(self):
+        for name in ("a", "z", "ab", "abcdefgh"):
+            self.assertIsNone(check_name(name))
+        for at, value in enumerate(NO_NAMES):
+            with self.assertRaises(InvalidName) as caught:
+                check_name(value)
+            self.assertTrue(is_same(caught.exception.value, value), msg=f"value {at}")
+
+    def test_bare_word(self):
+        for word in ("a", "", "need", Word.NEED):
+            self.assertEqual(bare_word(word), word)
+            self.assertIs(type(bare_word(word)), str)
 
 
 class Integers(WordsCase):

@@ -1,4 +1,6 @@
-"""Values that the tests pass where something else is required."""
+"""Values that the tests pass where something else is required, and a way to recognize them again."""
+
+import enum
 
 
 class Agrees:
@@ -23,6 +25,20 @@ class Refuses:
 
     __eq__ = __ne__ = __lt__ = __le__ = __gt__ = __ge__ = refuse
     __len__ = __bool__ = __iter__ = __getitem__ = __str__ = __repr__ = refuse
+
+
+class Word(str, enum.Enum):
+    """Strings that show themselves in another way."""
+
+    NEED = "need"
+    MODULE = "m"
+    OTHER = "n"
+
+
+class Number(int, enum.Enum):
+    """Integers that show themselves in another way."""
+
+    FEW = -3
 
 
 NO_NUMBERS_NO_STRINGS = [
@@ -80,3 +96,29 @@ NO_STEPS = NO_NUMBERS_NO_STRINGS + [
     ("set a", 1),
     ("set", ("a", 1)),
 ]
+
+NO_NAMES = NO_NUMBERS_NO_STRINGS + [
+    0,
+    1,
+    10 ** 30,
+    "",
+    "A",
+    "aB",
+    "a1",
+    "a ",
+    " a",
+    "a b",
+    "a\n",
+    "a:b",
+    "abcdefghi",
+    (),
+    ("a",),
+    ("a", "b"),
+    (["a"],),
+    (Refuses(),),
+]
+
+
+def is_same(found, given):
+    """Whether a value is the given one, or equal to it and of the same class; True is not the same as 1."""
+    return found is given or (type(found) is type(given) and found == given)

@@ -2,6 +2,8 @@
 
 import unittest
 
+import examples_world
+
 ERRORS = """
 >>> from cycleready.errors import WrongState
 >>> error = WrongState("m", "done")
@@ -173,6 +175,7 @@ raises WrongStep(position=0)
 ]
 
 SECTIONS = [(WITH_LIBRARY, LIBRARY_EXAMPLES), (WITH_NEEDS, NEEDS_EXAMPLES), (WITH_FRAME, FRAME_EXAMPLES)]
+SECTIONS += examples_world.SECTIONS
 EXAMPLES = [ERRORS, WORDS, KINDS, SKIP_TOO_FAR, VALID_PROGRAMS, MODULES_IN, TEXTS, SKIP_NOTHING]
 EXAMPLES += [beginning + example.removeprefix("\n") for beginning, examples in SECTIONS for example in examples]
 

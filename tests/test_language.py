@@ -18,12 +18,19 @@ INTERFACE = {
     "library_text.py": "library_text load_library",
     "needs.py": "Needs",
     "frames.py": "Frame",
+    "registry.py": "Registry",
+    "plain.py": "plain_run plain_order",
+    "world.py": "World run MOST_THREADS",
 }
 METHODS = {
     "Library": "__init__ __eq__ __len__ __repr__ of modules has_module initializer",
     "Needs": """__init__ __eq__ __len__ __repr__ __str__ of record delete delete_all pairs targets sources depends closure
         group path cycle_through is_acyclic clone""",
     "Frame": "__init__ __eq__ __len__ next_step next_index variables is_over run_plain pass_step clone",
+    "Registry": """__init__ __eq__ __len__ is_state names state_of in_state request answer access export exports value_of
+        finish fail chain is_held release retry unload needs recorded early clone""",
+    "World": """__init__ __eq__ __len__ add_thread threads library act stack status variables next_step waits_for can_run
+        state_of exports chain needs recorded early frame_of outcome events retry unload history undo clone""",
 }
 BUILTIN_METHODS = """append clear copy count endswith extend find get index insert isalnum isalpha isdigit islower isspace
     isupper items join keys ljust lower lstrip partition pop remove replace reverse rfind rjust rpartition rsplit rstrip
@@ -59,6 +66,12 @@ def classes_in(tree):
 def methods_in(node):
     """The names of the methods that stand in the body of a class itself."""
     return [method.name for method in node.body if isinstance(method, ast.FunctionDef)]
+
+
+def class_values():
+    """The names of the values that stand in the body of a class."""
+    rows = [row for tree in PARSED.values() for node in classes_in(tree) for row in node.body]
+    return [target.id for row in rows if isinstance(row, ast.Assign) for target in row.targets]
 
 
 def all_methods():
@@ -152,11 +165,11 @@ class Classes(unittest.TestCase):
     def test_no_name_is_a_method_and_an_attribute(self):
         for name, tree in PARSED.items():
             assigned = attributes_in(tree, ast.Store)
-            self.assertEqual([word for word in assigned if word in all_methods()], [], msg=name)
+            self.assertEqual([word for word in assigned if word in all_methods() + class_values()], [], msg=name)
 
     def test_attributes_that_are_read_are_assigned_or_methods(self):
         assigned = [word for tree in PARSED.values() for word in attributes_in(tree, ast.Store)]
-        known = assigned + all_methods() + BUILTIN_METHODS
+        known = assigned + all_methods() + class_values() + BUILTIN_METHODS
         for name, tree in PARSED.items():
             self.assertEqual([word for word in attributes_in(tree, ast.Load) if word not in known], [], msg=name)
 

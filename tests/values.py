@@ -122,3 +122,18 @@ NO_NAMES = NO_NUMBERS_NO_STRINGS + [
 def is_same(found, given):
     """Whether a value is the given one, or equal to it and of the same class; True is not the same as 1."""
     return found is given or (type(found) is type(given) and found == given)
+
+
+def are_same(found, given):
+    """Whether two sequences have the same values, one by one."""
+    return len(found) == len(given) and all([is_same(one, other) for one, other in zip(found, given)])
+
+
+def tried(function, *arguments, **named):
+    """What a call returns, or the name and the attributes of the error of the package that it raises."""
+    try:
+        return "returned", function(*arguments, **named)
+    except (ValueError, LookupError, RuntimeError, ArithmeticError) as error:
+        if type(error).__module__ != "cycleready.errors":
+            raise
+        return type(error).__name__, *vars(error).values()

@@ -37,15 +37,16 @@ def step_lines_after(lines, at):
     return step_lines
 
 
-def parse_step_lines(step_lines, first_number, modules):
-    """Return the list of the steps in the step lines of a module, of which the first one has this number."""
+def parse_step_lines(step_lines, first_number, modules, is_main):
+    """Return the list of the steps in step lines, of which the first has this number; a main program has no export."""
     steps = []
     for position, line in enumerate(step_lines):
         try:
             step = parse_step(line.removeprefix("  "))
         except InvalidText:
             raise InvalidText(first_number + position) from None
-        if position >= MOST_STEPS or not is_step_before(step, len(step_lines) - position - 1, modules):
+        is_valid = is_step_before(step, len(step_lines) - position - 1, modules)
+        if position >= MOST_STEPS or not is_valid or (is_main and step[0] == "export"):
             raise InvalidText(first_number + position)
         steps.append(step)
     return steps
@@ -66,7 +67,7 @@ def load_library(text):
         if name is None or name <= previous or len(initializers) == MOST_MODULES:
             raise InvalidText(at + 1)
         step_lines = step_lines_after(lines, at)
-        initializers[name] = parse_step_lines(step_lines, at + 2, known)
+        initializers[name] = parse_step_lines(step_lines, at + 2, known, False)
         previous = name
         at += 1 + len(step_lines)
     # Only the last line can lack its line feed, so every other line is looked at before it.

@@ -46,6 +46,12 @@ class Registry:
     def __len__(self):
         return len(self.states)
 
+    def fingerprint(self):
+        """Return a list of all that is compared, which shows in the same way if it is equal."""
+        modules = [[self.states[module], self.exports(module)] for module in self.states]
+        chains = [self.chains[module] for module in sorted(self.chains)]
+        return [modules, chains, sorted(self.held), self.graph.pairs(), self.accesses.pairs()]
+
     @staticmethod
     def is_state(value):
         """Return whether a value is a state."""

@@ -1,6 +1,7 @@
 """Threads: a main program and a stack of initializers, each of them at some step."""
 
 from cycleready.frames import Frame
+from cycleready.words import VARIABLES
 
 
 class Execution:
@@ -22,6 +23,12 @@ class Execution:
             and self.requested == other.requested
             and self.accessed == other.accessed
         )
+
+    def fingerprint(self):
+        """Return a list of all that actions change, which shows in the same way if it is equal."""
+        variables = self.frame.variables()
+        values = [variables[variable] for variable in VARIABLES]
+        return [self.module, self.frame.next_index(), values, self.requested, sorted(self.accessed)]
 
     def can_read(self, module):
         """Return whether this program gets the values that a module exports."""
@@ -59,6 +66,11 @@ class Thread:
             and self.phase == other.phase
             and self.asked == other.asked
         )
+
+    def fingerprint(self):
+        """Return a list of all that actions change, which shows in the same way if it is equal."""
+        stack = [execution.fingerprint() for execution in self.stacked]
+        return [self.main.fingerprint(), stack, self.phase, sorted(self.asked)]
 
     def is_running(self):
         """Return whether the thread has not ended."""

@@ -40,6 +40,11 @@ class World:
     def __len__(self):
         return len(self.operations)
 
+    def fingerprint(self):
+        """Return a string that is the same for equal worlds, and only for them, among those with the same programs."""
+        threads = [self.crew[name].fingerprint() for name in sorted(self.crew)]
+        return repr([self.registry.fingerprint(), threads])
+
     def add_thread(self, name, program):
         """Add a thread with a main program."""
         check_name(name)

@@ -2,6 +2,7 @@
 
 import unittest
 
+import examples_console
 import examples_world
 
 ERRORS = """
@@ -175,14 +176,14 @@ raises WrongStep(position=0)
 ]
 
 SECTIONS = [(WITH_LIBRARY, LIBRARY_EXAMPLES), (WITH_NEEDS, NEEDS_EXAMPLES), (WITH_FRAME, FRAME_EXAMPLES)]
-SECTIONS += examples_world.SECTIONS
+SECTIONS += examples_world.SECTIONS + examples_console.SECTIONS
 EXAMPLES = [ERRORS, WORDS, KINDS, SKIP_TOO_FAR, VALID_PROGRAMS, MODULES_IN, TEXTS, SKIP_NOTHING]
 EXAMPLES += [beginning + example.removeprefix("\n") for beginning, examples in SECTIONS for example in examples]
 
 
 def error_text(error):
     attributes = ", ".join(f"{name}={value!r}" for name, value in vars(error).items())
-    return f"raises {type(error).__name__}({attributes})"
+    return f"raises {type(error).__name__}({attributes})".removesuffix("()")
 
 
 def result_of(example):

@@ -3,23 +3,31 @@
 import random
 import unittest
 
+from cycleready.certificates import (
+    early_path,
+    failure_chain,
+    is_early_path,
+    is_failure_chain,
+    is_ready_list,
+    is_unready_path,
+    is_waiting_path,
+    ready_list,
+    unready_path,
+    waiting_path,
+)
+from cycleready.explore import is_decided
+from cycleready.history_text import dump_history, replay
 from cycleready.library import Library
 from cycleready.plain import plain_run
-from cycleready.world import World, run
+from cycleready.world import run
 from drawn import drawn_library, drawn_program
+from worlds import made
 
 MOST_ACTIONS = 3000
 
 
 def drawn_mains(draw, programs, names):
     return {name: drawn_program(draw, sorted(programs), 5, is_main=True) for name in names}
-
-
-def made(programs, mains):
-    world = World(Library(programs))
-    for name, program in mains.items():
-        world.add_thread(name, program)
-    return world
 
 
 def snapshot(world):
@@ -39,6 +47,36 @@ class Watched(unittest.TestCase):
     def check_progress(self, world):
         unfinished = [name for name in world.threads() if world.status(name) == "running"]
         self.assertEqual(world.can_run() == [], unfinished == [])
+
+    def check_waiting(self, world):
+        """A program waits only for a module that is not complete and that does not depend on the program's module."""
+        for thread in world.threads():
+            target = world.waits_for(thread)
+            if target is None:
+                continue
+            source = world.stack(thread)[-1] if world.stack(thread) else None
+            self.assertIn(world.state_of(target), ("running", "done"))
+            self.assertFalse(source is not None and world.needs().depends(target, source))
+            self.assertNotIn((source, target), world.early())
+            self.seen["waiting"] += 1
+            self.assertTrue(is_waiting_path(world, thread, waiting_path(world, thread)))
+
+    def check_certified(self, world):
+        """Each module that is ready, done or failed, and each possible early access has a certificate."""
+        for module in world.library().modules():
+            state = world.state_of(module)
+            if state == "ready":
+                self.assertTrue(is_ready_list(world, module, ready_list(world, module)))
+            elif state == "done":
+                self.assertTrue(is_unready_path(world, module, unready_path(world, module)))
+            elif state == "failed":
+                self.assertTrue(is_failure_chain(world, module, failure_chain(world, module)))
+        for source, target in world.needs().pairs():
+            if world.state_of(source) == "running":
+                path = early_path(world, source, target)
+                depends = world.needs().depends(target, source)
+                self.assertEqual(path is not None, depends and world.state_of(target) in ("running", "done"))
+                self.assertIs(is_early_path(world, source, target, path), path is not None)
 
     def check_ready_modules(self, world, before):
         for module, state in before["states"].items():
@@ -95,11 +133,16 @@ class Watched(unittest.TestCase):
             self.check_finish(before, event)
         elif event[0] == "fail":
             self.check_fail(world, before, event)
-        self.check_progress(world)
+        self.check_state(world)
         return event
 
-    def watched_run(self, world, draw):
+    def check_state(self, world):
         self.check_progress(world)
+        self.check_waiting(world)
+        self.check_certified(world)
+
+    def watched_run(self, world, draw):
+        self.check_state(world)
         for count in range(MOST_ACTIONS):
             if not world.can_run():
                 return
@@ -107,7 +150,7 @@ class Watched(unittest.TestCase):
         self.fail("the schedule does not end")
 
     def setUp(self):
-        self.seen = {"early": 0, "together": 0, "together failed": 0}
+        self.seen = {"early": 0, "together": 0, "together failed": 0, "waiting": 0}
 
 
 class RandomWorlds(Watched):
@@ -120,7 +163,7 @@ class RandomWorlds(Watched):
             programs = drawn_library(draw, draw.randint(2, 5), 6)
             mains = drawn_mains(draw, programs, "uvw")
             for schedule in range(3):
-                world = made(programs, mains)
+                world = made(programs, **mains)
                 self.watched_run(world, draw)
                 self.assertEqual(sorted(set(self.started(world))), sorted(self.started(world)))
         for kind, many in self.seen.items():
@@ -132,7 +175,7 @@ class RandomWorlds(Watched):
         for count in range(150):
             programs = drawn_library(draw, draw.randint(2, 5), 6)
             mains = drawn_mains(draw, programs, "uvwxyz")
-            world = made(programs, {})
+            world = made(programs)
             again = dict.fromkeys(programs, 1)
             while world.can_run() or mains:
                 if mains and (draw.random() < 0.1 or not world.can_run()):
@@ -148,10 +191,16 @@ class RandomWorlds(Watched):
                         again[module] += 1
                 else:
                     self.watched_act(world, draw.choice(world.can_run()))
-                self.check_progress(world)
+                self.check_state(world)
+            self.check_replayed(world)
             for module, most in again.items():
                 self.assertLessEqual(self.started(world).count(module), most)
         self.assertGreater(min(performed.values()), 20)
+
+    def check_replayed(self, world):
+        other = replay(world.library(), dump_history(world))
+        self.assertIs(other == world, True)
+        self.assertEqual([other.events(), other.history()], [world.events(), world.history()])
 
     def retried(self, world):
         """Retry all modules that can be; return their list."""
@@ -170,7 +219,7 @@ class OneAcyclicRunDecides(Watched):
         """The worlds at the ends of so many schedules."""
         worlds = []
         for schedule in range(count):
-            world = made(programs, mains)
+            world = made(programs, **mains)
             run(world, choices=[draw.randrange(6) for choice in range(200)])
             worlds.append(world)
         return worlds
@@ -180,6 +229,7 @@ class OneAcyclicRunDecides(Watched):
         worlds = self.finals(programs, mains, draw, 8)
         acyclic = [world.recorded().is_acyclic() for world in worlds]
         self.assertEqual(acyclic, acyclic[:1] * len(acyclic))
+        self.assertEqual([is_decided(world) for world in worlds], acyclic)
         if acyclic[0]:
             early = [event for world in worlds for event in world.events() if event[-1] == "early"]
             self.assertEqual(early, [])

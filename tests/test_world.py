@@ -14,24 +14,12 @@ from drawn import drawn_library, drawn_program
 from registry_model import Refused
 from values import NO_NAMES, NO_NUMBERS_NO_STRINGS, NO_STEPS, Number, Word, are_same, is_same, tried
 from world_model import WorldModel, shown
+from worlds import acted, made
 
 PLAIN = {"m": [("set", "a", 5), ("export", "x", "a")], "n": [("need", "m"), ("read", "b", "m", "x"), ("export", "y", "b")]}
 CYCLE = {"p": [("need", "q"), ("export", "x", "a")], "q": [("need", "p")]}
 FAILING = {"f": [("fail",)], "g": [("need", "f")]}
 NO_COUNTS = NO_NUMBERS_NO_STRINGS + [-1, -(10 ** 20), "", "1", (), (1,)]
-
-
-def made(programs, **mains):
-    """A world with these threads."""
-    world = World(Library(programs))
-    for name, program in mains.items():
-        world.add_thread(name, program)
-    return world
-
-
-def acted(world, threads):
-    """The events of these threads, one letter each."""
-    return [world.act(thread) for thread in threads]
 
 
 def whole(world):

@@ -31,7 +31,8 @@ def walk(world, limit):
             if count >= limit:
                 raise TooMany(limit)
             count += 1
-            moves = moves_of(state)
+            # Once there are more states than the limit, the error is certain, and no further state is looked for.
+            moves = moves_of(state) if len(reached) <= limit else []
             yield (schedule, state, moves)
             for thread, event, after in moves:
                 fingerprint = after.fingerprint()
